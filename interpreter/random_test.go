@@ -5,303 +5,27 @@ import (
 	"reflect"
 	"slices"
 	"strconv"
-	"strings"
 	"testing"
 
 	"assessor/api"
 	"assessor/checker"
 	"assessor/interpreter"
-	"assessor/lexer"
 	"assessor/names"
-	"assessor/parser"
-	"assessor/printer"
+	"assessor/samples"
 	"assessor/types"
 	"assessor/value"
 )
 
-var (
-	integer = api.Type{Kind: api.TypeInt}
-	truth   = api.Type{Kind: api.TypeBool}
-)
+// writer makes random programs.
+type writer struct{ r *rand.Rand }
 
-func array(length int) api.Type { return api.Type{Kind: api.TypeArray, Len: length} }
+func writers(seed int64) *writer { return &writer{rand.New(rand.NewSource(seed))} }
 
-func record(name string) api.Type { return api.Type{Kind: api.TypeRecord, Record: name} }
+func (w *writer) program() (api.Node, string) { return samples.Program(w.r) }
 
-func node(kind int, text string, kids ...api.Node) api.Node {
-	return api.Node{Kind: kind, Text: text, Kids: kids}
-}
-
-// variable is one that is visible.
-type variable struct {
-	name string
-	t    api.Type
-	loop bool
-}
-
-// procedure is the header of one.
-type procedure struct {
-	name       string
-	parameters []variable
-	vars       []bool
-	result     api.Type
-}
-
-// writer makes random programs with all types right.
-type writer struct {
-	r          *rand.Rand
-	records    []api.Record
-	procedures []procedure // that may be called
-	visible    []variable
-	result     api.Type
-	last       int
-}
-
-func writers(seed int64) *writer { return &writer{r: rand.New(rand.NewSource(seed))} }
-
-func (w *writer) chance(percent int) bool { return w.r.Intn(100) < percent }
-
-func (w *writer) fresh(prefix string) string {
-	w.last++
-	return prefix + strconv.Itoa(w.last)
-}
-
-func (w *writer) anyType() api.Type {
-	switch i := w.r.Intn(6 + len(w.records)); i {
-	case 0, 1:
-		return integer
-	case 2, 3:
-		return truth
-	case 4, 5:
-		return array(1 + w.r.Intn(3))
-	default:
-		return record(w.records[i-6].Name)
-	}
-}
-
-// written returns the node of a type.
-func written(t api.Type) api.Node {
-	switch t.Kind {
-	case api.TypeInt, api.TypeBool, api.TypeRecord:
-		return node(api.NodeType, types.Format(t))
-	case api.TypeArray:
-		return node(api.NodeArrayType, strconv.Itoa(t.Len))
-	}
-	return node(api.NodeNone, "")
-}
-
-// program returns a program with declarations in any order, and its text.
-func (w *writer) program() (api.Node, string) {
-	*w = writer{r: w.r}
-	n := node(api.NodeProgram, "")
-	for range w.r.Intn(3) {
-		x := api.Record{Name: w.fresh("r")}
-		k := node(api.NodeRecord, x.Name)
-		for range 1 + w.r.Intn(3) {
-			f := api.Field{Name: w.fresh("f"), Type: []api.Type{integer, truth}[w.r.Intn(2)]}
-			x.Fields = append(x.Fields, f)
-			k.Kids = append(k.Kids, node(api.NodeField, f.Name, written(f.Type)))
-		}
-		w.records = append(w.records, x)
-		n.Kids = append(n.Kids, k)
-	}
-	for range 1 + w.r.Intn(4) {
-		n.Kids = append(n.Kids, w.procedure())
-	}
-	w.r.Shuffle(len(n.Kids), func(i, j int) { n.Kids[i], n.Kids[j] = n.Kids[j], n.Kids[i] })
-	return w.text(n)
-}
-
-// text returns a tree with the places of its text, and this text.
-func (w *writer) text(n api.Node) (api.Node, string) {
-	s, e := printer.Format(n)
-	if e != api.OK {
-		return n, ""
-	}
-	n, _, _ = parser.Parse(s)
-	return n, s
-}
-
-func (w *writer) procedure() api.Node {
-	x := procedure{name: w.fresh("p")}
-	if w.chance(60) {
-		x.result = w.anyType()
-	}
-	parameters := node(api.NodeParameters, "")
-	for range w.r.Intn(4) {
-		v := variable{name: w.fresh("a"), t: w.anyType()}
-		by := x.result.Kind == api.TypeNone && w.chance(60)
-		kind := api.NodeParameter
-		if by {
-			kind = api.NodeVarParameter
-		}
-		x.parameters, x.vars = append(x.parameters, v), append(x.vars, by)
-		parameters.Kids = append(parameters.Kids, node(kind, v.name, written(v.t)))
-	}
-	w.visible, w.result = slices.Clone(x.parameters), x.result
-	body := w.block(3)
-	w.procedures = append(w.procedures, x)
-	return node(api.NodeProcedure, x.name, parameters, written(x.result), body)
-}
-
-func (w *writer) block(levels int) api.Node {
-	n := node(api.NodeBlock, "")
-	visible := len(w.visible)
-	for range w.r.Intn(4) {
-		n.Kids = append(n.Kids, w.statement(levels-1))
-	}
-	w.visible = w.visible[:visible]
-	return n
-}
-
-func (w *writer) statement(levels int) api.Node {
-	kind := api.NodeVar + w.r.Intn(9)
-	if levels <= 0 && kind >= api.NodeIf && kind <= api.NodeFor || kind > api.NodeDo {
-		kind = api.NodeVar
-	}
-	none := node(api.NodeNone, "")
-	switch kind {
-	case api.NodeAssign:
-		if place, t, ok := w.place(false, 2); ok {
-			return node(kind, "", place, w.expression(t, 2))
-		}
-	case api.NodeIf:
-		other := none
-		if w.chance(50) {
-			other = w.block(levels)
-		} else if w.chance(30) {
-			other = node(kind, "", w.expression(truth, 2), w.block(levels-1), none)
-		}
-		return node(kind, "", w.expression(truth, 2), w.block(levels), other)
-	case api.NodeWhile:
-		return node(kind, "", w.expression(truth, 2), w.block(levels))
-	case api.NodeFor:
-		n := node(kind, w.fresh("i"), w.expression(integer, 2), w.expression(integer, 1))
-		w.visible = append(w.visible, variable{n.Text, integer, true})
-		n.Kids = append(n.Kids, w.block(levels))
-		w.visible = w.visible[:len(w.visible)-1]
-		return n
-	case api.NodeReturn:
-		if w.result.Kind == api.TypeNone {
-			return node(kind, "", none)
-		}
-		return node(kind, "", w.expression(w.result, 2))
-	case api.NodeAssert:
-		return node(kind, "", w.expression(truth, 3))
-	case api.NodeDo:
-		if n, ok := w.call(api.Type{}, 2); ok {
-			n.Kind = kind
-			return n
-		}
-	}
-	t := w.anyType()
-	n := node(api.NodeVar, w.fresh("v"), none, w.expression(t, 3))
-	if w.chance(40) {
-		n.Kids[0] = written(t)
-	}
-	w.visible = append(w.visible, variable{n.Text, t, false})
-	return n
-}
-
-// place returns a place with its type; if it is only read, also the variable of a loop.
-func (w *writer) place(read bool, levels int) (api.Node, api.Type, bool) {
-	var l []variable
-	for _, v := range w.visible {
-		if read || !v.loop {
-			l = append(l, v)
-		}
-	}
-	if len(l) == 0 {
-		return api.Node{}, api.Type{}, false
-	}
-	v := l[w.r.Intn(len(l))]
-	name := node(api.NodeName, v.name)
-	if v.t.Kind == api.TypeArray && levels > 0 && w.chance(60) {
-		return node(api.NodeIndex, "", name, w.expression(integer, levels-1)), integer, true
-	}
-	if v.t.Kind == api.TypeRecord && w.chance(60) {
-		fields := w.fields(v.t)
-		f := fields[w.r.Intn(len(fields))]
-		return node(api.NodeMember, f.Name, name), f.Type, true
-	}
-	return name, v.t, true
-}
-
-func (w *writer) fields(t api.Type) []api.Field {
-	i := slices.IndexFunc(w.records, func(x api.Record) bool { return x.Name == t.Record })
-	return w.records[i].Fields
-}
-
-// call returns the call of a procedure with a result of a type, or without one.
-func (w *writer) call(result api.Type, levels int) (api.Node, bool) {
-	for _, x := range w.procedures {
-		if x.result != result || w.chance(40) {
-			continue
-		}
-		n := node(api.NodeCall, x.name)
-		var used []string
-		for i, v := range x.parameters {
-			k := w.expression(v.t, levels-1)
-			if x.vars[i] {
-				j := slices.IndexFunc(w.visible, func(o variable) bool { return o.t == v.t && !o.loop && !slices.Contains(used, o.name) })
-				if j < 0 {
-					return n, false
-				}
-				k = node(api.NodeName, w.visible[j].name)
-				used = append(used, k.Text)
-			}
-			n.Kids = append(n.Kids, k)
-		}
-		return n, true
-	}
-	return api.Node{}, false
-}
-
-func (w *writer) expression(t api.Type, levels int) api.Node {
-	for range 4 {
-		if place, of, ok := w.place(true, levels); ok && of == t && w.chance(50) {
-			return place
-		}
-	}
-	if levels > 0 && w.chance(30) {
-		if n, ok := w.call(t, levels-1); ok {
-			return n
-		}
-	}
-	one := func(s string) string { l := strings.Fields(s); return l[w.r.Intn(len(l))] }
-	switch t.Kind {
-	case api.TypeArray:
-		n := node(api.NodeList, "")
-		for range t.Len {
-			n.Kids = append(n.Kids, w.expression(integer, levels-1))
-		}
-		return n
-	case api.TypeRecord:
-		n := node(api.NodeCall, t.Record)
-		for _, f := range w.fields(t) {
-			n.Kids = append(n.Kids, w.expression(f.Type, levels-1))
-		}
-		return n
-	case api.TypeBool:
-		switch {
-		case levels <= 0:
-			return node(api.NodeBool, one("true false"))
-		case w.chance(20):
-			return node(api.NodeUnary, "not", w.expression(t, levels-1))
-		case w.chance(40):
-			return node(api.NodeBinary, one("and or == !="), w.expression(t, levels-1), w.expression(t, levels-1))
-		}
-		return node(api.NodeBinary, one("== != < <= > >="), w.expression(integer, levels-1), w.expression(integer, levels-1))
-	}
-	switch i := slices.IndexFunc(w.visible, func(v variable) bool { return v.t.Kind == api.TypeArray }); {
-	case i >= 0 && w.chance(20):
-		return node(api.NodeLen, "", node(api.NodeName, w.visible[i].name))
-	case levels <= 0:
-		return node(api.NodeNumber, one("0 1 2 7"))
-	case w.chance(20):
-		return node(api.NodeUnary, "-", w.expression(t, levels-1))
-	}
-	return node(api.NodeBinary, one("+ - * / %"), w.expression(t, levels-1), w.expression(t, levels-1))
+// scalars returns random ones of some variables.
+func (w *writer) scalars(records []api.Record, width int, l []api.Variable) []int {
+	return samples.Scalars(w.r, records, width, l...)
 }
 
 // numbered is a node with its number.
@@ -580,21 +304,6 @@ func (d *definition) outcome(p api.Procedure, input []int) (api.Outcome, int) {
 	return api.Outcome{Out: append(out, final...)}, -1
 }
 
-// scalars returns random ones of some variables.
-func scalars(r *rand.Rand, records []api.Record, width int, l []api.Variable) []int {
-	var all []int
-	for _, v := range l {
-		for _, t := range types.Scalars(records, v.Type) {
-			if t.Kind == api.TypeBool {
-				all = append(all, r.Intn(2))
-			} else {
-				all = append(all, value.Wrap(width, []int{0, 1, 2, r.Intn(256)}[r.Intn(4)]))
-			}
-		}
-	}
-	return all
-}
-
 func same(a, b api.Outcome) bool { return a.Fault == b.Fault && slices.Equal(a.Out, b.Out) }
 
 // results returns the types of what a procedure returns.
@@ -627,7 +336,7 @@ func TestRunsLikeTheDefinition(t *testing.T) {
 				continue
 			}
 			for range 6 {
-				input := scalars(w.r, p.Records, b.Width, x.Variables[:x.Parameters])
+				input := w.scalars(p.Records, b.Width, x.Variables[:x.Parameters])
 				kept := slices.Clone(input)
 				outcome, number, e := interpreter.Run(p, x.Name, b, input)
 				want, at := d.outcome(x, input)
@@ -646,7 +355,7 @@ func TestRunsLikeTheDefinition(t *testing.T) {
 					}
 				}
 				accepted, e := interpreter.Accepts(p, x.Name, b, input)
-				if yes := x.Result == truth; accepted != (yes && same(outcome, api.Outcome{Out: []int{1}})) || (e == api.OK) != yes {
+				if yes := x.Result.Kind == api.TypeBool; accepted != (yes && same(outcome, api.Outcome{Out: []int{1}})) || (e == api.OK) != yes {
 					t.Fatal(s, accepted, e)
 				}
 			}
@@ -678,7 +387,7 @@ func TestExpressionsLikeTheDefinition(t *testing.T) {
 			if n.Kind == api.NodeProcedure {
 				procedure++
 				x := p.Procedures[procedure]
-				f = api.Frame{Procedure: procedure, Slots: scalars(w.r, p.Records, b.Width, x.Variables)}
+				f = api.Frame{Procedure: procedure, Slots: w.scalars(p.Records, b.Width, x.Variables)}
 			}
 			if n.Kind >= api.NodeName {
 				// Several variables of a procedure can have one name.
@@ -723,17 +432,6 @@ func size(n *numbered) int {
 
 // P12.4
 
-// spread returns a text with white space and comments in front of each token.
-func spread(r *rand.Rand, s string) string {
-	l, _ := lexer.Scan(s)
-	var b strings.Builder
-	for _, token := range l {
-		b.WriteString([]string{" ", "\n", "\t ", " #\n", "\r\n"}[r.Intn(5)])
-		b.WriteString(s[token.At:token.End])
-	}
-	return b.String() + "# end"
-}
-
 func TestMoreRoundsChangeNothing(t *testing.T) {
 	w := writers(3)
 	limited, free := 0, 0
@@ -745,7 +443,7 @@ func TestMoreRoundsChangeNothing(t *testing.T) {
 		}
 		width := 2 + w.r.Intn(7)
 		for _, x := range p.Procedures {
-			input := scalars(w.r, p.Records, width, x.Variables[:x.Parameters])
+			input := w.scalars(p.Records, width, x.Variables[:x.Parameters])
 			last, at, e := interpreter.Run(p, x.Name, api.Bounds{Width: width}, input)
 			for loops := 1; loops <= api.MaxLoops && e == api.OK; loops++ {
 				var outcome api.Outcome
@@ -777,7 +475,7 @@ func TestRenamingAndSpaceChangeNoOutcome(t *testing.T) {
 	for range 200 {
 		n, s := w.program()
 		p, l, _ := checker.Check(s)
-		wide := spread(w.r, s)
+		wide := samples.Spread(w.r, s)
 		if s == "" || len(l) > 0 || len(wide) > api.MaxSource {
 			continue
 		}
@@ -787,7 +485,7 @@ func TestRenamingAndSpaceChangeNoOutcome(t *testing.T) {
 		renamed, _, _ := checker.Tree(m)
 		spaced := checked(t, wide)
 		for i, x := range p.Procedures {
-			input := scalars(w.r, p.Records, bounds.Width, x.Variables[:x.Parameters])
+			input := w.scalars(p.Records, bounds.Width, x.Variables[:x.Parameters])
 			want, at, e := interpreter.Run(p, x.Name, bounds, input)
 			for _, q := range []api.Program{renamed, spaced} {
 				outcome, number, f := interpreter.Run(q, q.Procedures[i].Name, bounds, input)
@@ -812,8 +510,8 @@ func TestProgramsStay(t *testing.T) {
 			continue
 		}
 		for i, x := range p.Procedures {
-			f := api.Frame{Procedure: i, Slots: scalars(w.r, p.Records, bounds.Width, x.Variables)}
-			interpreter.Run(p, x.Name, bounds, f.Slots[:len(scalars(w.r, p.Records, bounds.Width, x.Variables[:x.Parameters]))])
+			f := api.Frame{Procedure: i, Slots: w.scalars(p.Records, bounds.Width, x.Variables)}
+			interpreter.Run(p, x.Name, bounds, f.Slots[:len(w.scalars(p.Records, bounds.Width, x.Variables[:x.Parameters]))])
 			for number := range p.Types {
 				kept := slices.Clone(f.Slots)
 				interpreter.Evaluate(p, number, bounds, f)
@@ -839,7 +537,7 @@ func FuzzRun(f *testing.F) {
 			var input []int
 			for i, of := range types.Scalars(p.Records, typesOf(x.Variables[:x.Parameters])...) {
 				n := value.Wrap(width, first+i)
-				if of == truth {
+				if of.Kind == api.TypeBool {
 					n &= 1
 				}
 				input = append(input, n)
