@@ -12,126 +12,9 @@ import (
 	"assessor/checker"
 	"assessor/exercise"
 	"assessor/interpreter"
-	"assessor/lexer"
 	"assessor/samples"
-	"assessor/types"
 	"assessor/value"
 )
-
-// writer writes random procedures that return bools.
-type writer struct {
-	*rand.Rand
-	ints, bools []string // expressions that can be used
-}
-
-func (w *writer) one(l ...string) string { return l[w.Intn(len(l))] }
-
-// procedure returns the text of a procedure with parameters of some types.
-func (w *writer) procedure(name string, p api.Program, l []api.Type) string {
-	w.ints, w.bools = []string{"1", "0"}, []string{"true"}
-	var parameters []string
-	for i, t := range l {
-		v := "q" + strconv.Itoa(i)
-		parameters = append(parameters, v+": "+types.Format(t))
-		for k, s := range types.Scalars(p.Records, t) {
-			x := v
-			switch t.Kind {
-			case api.TypeArray:
-				x += "[" + strconv.Itoa(k) + "]"
-			case api.TypeRecord:
-				i := slices.IndexFunc(p.Records, func(r api.Record) bool { return r.Name == t.Record })
-				x += "." + p.Records[i].Fields[k].Name
-			}
-			if s.Kind == api.TypeBool {
-				w.bools = append(w.bools, x)
-			} else {
-				w.ints = append(w.ints, x)
-			}
-		}
-	}
-	body := w.one("", "assert "+w.condition()+"; ", "while "+w.condition()+" { return "+w.condition()+"; } ") + "return " + w.condition() + ";"
-	return " proc " + name + "(" + strings.Join(parameters, ", ") + "): bool { " + body + " }"
-}
-
-func (w *writer) condition() string {
-	switch w.Intn(6) {
-	case 0:
-		return w.one(w.bools...) + w.one(" or ", " and not ") + w.one(w.bools...)
-	case 1:
-		return "3 / (" + w.one(w.ints...) + w.one(" + ", " - ") + w.one(w.ints...) + ") > 0"
-	case 2:
-		return w.one(w.bools...) + w.one(" or ", " and ") + w.one(w.ints...) + " != 0"
-	}
-	return w.one(w.ints...) + w.one(" < ", " <= ", " != ") + w.one(w.ints...)
-}
-
-// random returns a random exercise, and its program; false if there is none.
-func random(r *rand.Rand) (api.Exercise, api.Program, bool) {
-	_, s := samples.Program(r)
-	p, wrong, e := checker.Check(s)
-	if s == "" || len(wrong) > 0 || e != api.OK {
-		return api.Exercise{}, p, false
-	}
-	entry := p.Procedures[r.Intn(len(p.Procedures))]
-	x := api.Exercise{Source: s, Entry: entry.Name, Model: r.Intn(3) > 0, Bounds: api.Bounds{Width: 2 + r.Intn(7), Loops: r.Intn(4)}}
-	parameters, results := signature(entry)
-	w := writer{Rand: r}
-	if len(parameters)+len(results) <= api.MaxParameters && (!x.Model || r.Intn(2) == 0) {
-		x.Accepts = "good"
-		x.Source += w.procedure(x.Accepts, p, slices.Concat(parameters, results))
-	}
-	if r.Intn(2) == 0 {
-		x.Given = "given"
-		x.Source += w.procedure(x.Given, p, parameters)
-	}
-	for _, t := range types.Scalars(p.Records, parameters...) {
-		if t.Kind == api.TypeBool {
-			lo := r.Intn(2)
-			x.Ranges = append(x.Ranges, api.Range{Lo: lo, Hi: lo + r.Intn(2-lo)})
-			continue
-		}
-		lo := max(value.Least(x.Bounds.Width), r.Intn(5)-3)
-		x.Ranges = append(x.Ranges, api.Range{Lo: lo, Hi: min(value.Greatest(x.Bounds.Width), lo+r.Intn(3))})
-	}
-	p, wrong, e = checker.Check(x.Source)
-	return x, p, len(wrong) == 0 && e == api.OK
-}
-
-// signature returns the types of the parameters and of the results of a procedure.
-func signature(x api.Procedure) (parameters, results []api.Type) {
-	for _, v := range x.Variables[:x.Parameters] {
-		parameters = append(parameters, v.Type)
-		if v.Var {
-			results = append(results, v.Type)
-		}
-	}
-	if x.Result.Kind != api.TypeNone {
-		results = append(results, x.Result)
-	}
-	return parameters, results
-}
-
-// changed returns a text in which some words are replaced by others.
-func changed(r *rand.Rand, s string) string {
-	others := map[string][]string{"+": {"-", "*", "/"}, "-": {"+"}, "*": {"+"}, "/": {"*", "%"}, "%": {"/"}, "<": {"<=", ">"}, "<=": {"<"}, ">": {"<", ">="}, ">=": {">"}, "==": {"!="}, "!=": {"=="}, "and": {"or"}, "or": {"and"}, "true": {"false"}, "false": {"true"}, "0": {"1"}, "1": {"0", "2"}, "2": {"1", "7"}, "7": {"3"}}
-	tokens, _ := lexer.Scan(s)
-	words := lexer.Words(s, tokens)
-	var places []int
-	for i, word := range words {
-		if others[word] != nil {
-			places = append(places, i)
-		}
-	}
-	for range r.Intn(6) {
-		if len(places) > 0 {
-			i := places[r.Intn(len(places))]
-			if l := others[words[i]]; l != nil {
-				words[i] = l[r.Intn(len(l))]
-			}
-		}
-	}
-	return strings.Join(words, " ")
-}
 
 // judged is the case of an input by the chapter's definitions.
 func judged(x api.Exercise, teacher, student api.Program, input []int) api.Case {
@@ -184,7 +67,7 @@ func TestCasesLikeTheDefinitions(t *testing.T) {
 	r := rand.New(rand.NewSource(1))
 	count := map[string]int{}
 	for range 1500 {
-		x, teacher, ok := random(r)
+		x, teacher, ok := samples.Exercise(r)
 		if !ok {
 			continue
 		}
@@ -196,7 +79,7 @@ func TestCasesLikeTheDefinitions(t *testing.T) {
 		if made.Count() > 1000 {
 			continue
 		}
-		source := changed(r, x.Source)
+		source := samples.Changed(r, x.Source)
 		s, _, e := made.Submit(source)
 		student, _, _ := checker.Check(source)
 		if e != api.OK {
@@ -270,7 +153,7 @@ func TestTheTeachersProgramIsRight(t *testing.T) {
 	r := rand.New(rand.NewSource(2))
 	right, refused := 0, 0
 	for range 600 {
-		x, p, ok := random(r)
+		x, p, ok := samples.Exercise(r)
 		x.Model = true
 		made, e := exercise.New(x)
 		if !ok || e != api.OK || made.Count() > 1000 {
@@ -314,7 +197,7 @@ func TestLargeNumbersOfRandomPrograms(t *testing.T) {
 	r := rand.New(rand.NewSource(3))
 	found := 0
 	for range 300 {
-		x, p, ok := random(r)
+		x, p, ok := samples.Exercise(r)
 		made, e := exercise.New(x)
 		if !ok || e != api.OK {
 			continue

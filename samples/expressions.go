@@ -2,6 +2,7 @@ package samples
 
 import (
 	"slices"
+	"strconv"
 
 	"assessor/api"
 )
@@ -20,7 +21,7 @@ func (w *writer) place(read bool, levels int) (api.Node, api.Type, bool) {
 	v := l[w.source.Intn(len(l))]
 	name := node(api.NodeName, v.name)
 	if v.t.Kind == api.TypeArray && levels > 0 && w.chance(60) {
-		return node(api.NodeIndex, "", name, w.expression(integer(), levels-1)), integer(), true
+		return node(api.NodeIndex, "", name, w.index(v.t.Len, levels-1)), integer(), true
 	}
 	if v.t.Kind == api.TypeRecord && w.chance(60) {
 		fields := w.fields(v.t)
@@ -28,6 +29,14 @@ func (w *writer) place(read bool, levels int) (api.Node, api.Type, bool) {
 		return node(api.NodeMember, f.Name, name), f.Type, true
 	}
 	return name, v.t, true
+}
+
+// index returns the index of an element of an array.
+func (w *writer) index(length, levels int) api.Node {
+	if w.calm && w.chance(60) {
+		return node(api.NodeNumber, strconv.Itoa(w.source.Intn(length)))
+	}
+	return w.expression(integer(), levels)
 }
 
 func (w *writer) fields(t api.Type) []api.Field {
@@ -60,8 +69,19 @@ func (w *writer) call(result api.Type, levels int) (api.Node, bool) {
 	return api.Node{}, false
 }
 
+// tries returns how often it is tried to find a place for an expression.
+func (w *writer) tries(levels int) int {
+	switch {
+	case !w.calm:
+		return 4
+	case levels > 0:
+		return 2
+	}
+	return 12
+}
+
 func (w *writer) expression(t api.Type, levels int) api.Node {
-	for range 4 {
+	for range w.tries(levels) {
 		if place, of, ok := w.place(true, levels); ok && of == t && w.chance(50) {
 			return place
 		}
@@ -114,5 +134,5 @@ func (w *writer) number(levels int) api.Node {
 	case w.chance(20):
 		return node(api.NodeUnary, "-", w.expression(integer(), levels-1))
 	}
-	return node(api.NodeBinary, w.one("+ - * / %"), w.expression(integer(), levels-1), w.expression(integer(), levels-1))
+	return node(api.NodeBinary, w.one(either(w.calm, "+ + - - * / %", "+ - * / %")), w.expression(integer(), levels-1), w.expression(integer(), levels-1))
 }

@@ -21,6 +21,12 @@ func Program(r Source) (api.Node, string) {
 	return Text(w.program())
 }
 
+// Calm returns a program as Program does, of whose runs fewer end with a fault, and more depend on the input.
+func Calm(r Source) (api.Node, string) {
+	w := writer{source: r, calm: true}
+	return Text(w.program())
+}
+
 // Text returns a tree with the places of its canonical text, and this text.
 func Text(n api.Node) (api.Node, string) {
 	s, e := printer.Format(n)

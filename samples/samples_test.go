@@ -7,6 +7,8 @@ import (
 
 	"assessor/api"
 	"assessor/checker"
+	"assessor/exercise"
+	"assessor/interpreter"
 	"assessor/lexer"
 	"assessor/parser"
 	"assessor/samples"
@@ -45,6 +47,56 @@ func TestProgramsAreRight(t *testing.T) {
 	}
 	if right < 200 {
 		t.Error(right)
+	}
+}
+
+func TestCalmPrograms(t *testing.T) {
+	r := rand.New(rand.NewSource(2))
+	ended := map[bool]int{}
+	for range 300 {
+		n, s := samples.Calm(r)
+		if s == "" || tree.Count(n) > api.MaxNodes {
+			continue
+		}
+		p, l, e := checker.Check(s)
+		if parsed, _, _ := parser.Parse(s); len(l) > 0 || e != api.OK || !tree.Same(parsed, n) {
+			t.Fatal(s, l, e)
+		}
+		for _, x := range p.Procedures {
+			input := samples.Scalars(r, p.Records, 5, x.Variables[:x.Parameters]...)
+			if o, _, e := interpreter.Run(p, x.Name, api.Bounds{Width: 5, Loops: 4}, input); e == api.OK {
+				ended[o.Fault == api.FaultNone]++
+			}
+		}
+	}
+	if ended[true] < ended[false] || ended[false] < 50 {
+		t.Error(ended)
+	}
+}
+
+func TestExercises(t *testing.T) {
+	r := rand.New(rand.NewSource(3))
+	valid, changed := 0, 0
+	for range 300 {
+		x, p, ok := samples.Exercise(r)
+		if !ok {
+			continue
+		}
+		made, e := exercise.New(x)
+		if e != api.OK {
+			continue
+		}
+		valid++
+		if want, _, _ := checker.Check(x.Source); !tree.Same(want.Tree, p.Tree) {
+			t.Fatal(x.Source)
+		}
+		source := samples.Changed(r, x.Source)
+		if _, _, e := made.Submit(source); e == api.OK && !slices.Equal(words(source), words(x.Source)) {
+			changed++
+		}
+	}
+	if valid < 100 || changed < 50 {
+		t.Error(valid, changed)
 	}
 }
 

@@ -27,6 +27,7 @@ type procedure struct {
 // writer makes a random program.
 type writer struct {
 	source     Source
+	calm       bool // few runs end with a fault, and most depend on the input
 	records    []api.Record
 	procedures []procedure // that may be called
 	visible    []variable
@@ -40,6 +41,14 @@ func (w *writer) chance(percent int) bool { return w.source.Intn(100) < percent 
 func (w *writer) one(words string) string {
 	l := strings.Fields(words)
 	return l[w.source.Intn(len(l))]
+}
+
+// either returns what holds for a calm program, or for another one.
+func either[T any](calm bool, a, b T) T {
+	if calm {
+		return a
+	}
+	return b
 }
 
 func (w *writer) fresh(prefix string) string {
@@ -112,7 +121,7 @@ func (w *writer) procedure() api.Node {
 		x.result = w.anyType()
 	}
 	parameters := node(api.NodeParameters, "")
-	for range w.source.Intn(4) {
+	for range either(w.calm, 2, 0) + w.source.Intn(either(w.calm, 3, 4)) {
 		v := variable{name: w.fresh("a"), t: w.anyType()}
 		by := x.result.Kind == api.TypeNone && w.chance(60)
 		kind := api.NodeParameter
@@ -124,6 +133,9 @@ func (w *writer) procedure() api.Node {
 	}
 	w.visible, w.result = slices.Clone(x.parameters), x.result
 	body := w.block(3)
+	if w.calm && x.result.Kind != api.TypeNone {
+		body.Kids = append(body.Kids, node(api.NodeReturn, "", w.expression(x.result, 2)))
+	}
 	w.procedures = append(w.procedures, x)
 	return node(api.NodeProcedure, x.name, parameters, written(x.result), body)
 }
@@ -131,7 +143,7 @@ func (w *writer) procedure() api.Node {
 func (w *writer) block(levels int) api.Node {
 	n := node(api.NodeBlock, "")
 	visible := len(w.visible)
-	for range w.source.Intn(4) {
+	for range either(w.calm, 1, 0) + w.source.Intn(4) {
 		n.Kids = append(n.Kids, w.statement(levels-1))
 	}
 	w.visible = w.visible[:visible]
@@ -143,6 +155,9 @@ func (w *writer) statement(levels int) api.Node {
 	if levels <= 0 && kind >= api.NodeIf && kind <= api.NodeFor || kind > api.NodeDo {
 		kind = api.NodeVar
 	}
+	if w.calm {
+		kind = w.calmed(kind)
+	}
 	switch kind {
 	case api.NodeAssign:
 		if place, t, ok := w.place(false, 2); ok {
@@ -153,7 +168,7 @@ func (w *writer) statement(levels int) api.Node {
 	case api.NodeWhile:
 		return node(kind, "", w.expression(truth(), 2), w.block(levels))
 	case api.NodeFor:
-		n := node(kind, w.fresh("i"), w.expression(integer(), 2), w.expression(integer(), 1))
+		n := node(kind, w.fresh("i"), w.bound(2), w.bound(1))
 		w.visible = append(w.visible, variable{n.Text, integer(), true})
 		n.Kids = append(n.Kids, w.block(levels))
 		w.visible = w.visible[:len(w.visible)-1]
@@ -172,6 +187,25 @@ func (w *writer) statement(levels int) api.Node {
 		}
 	}
 	return w.define()
+}
+
+// calmed returns mostly another kind than one of those statements that often end runs.
+func (w *writer) calmed(kind int) int {
+	switch {
+	case kind == api.NodeReturn && w.chance(70), kind == api.NodeAssert && w.chance(80):
+		return api.NodeAssign
+	case kind == api.NodeWhile && w.chance(60):
+		return api.NodeIf
+	}
+	return kind
+}
+
+// bound returns the first or the last int of a for.
+func (w *writer) bound(levels int) api.Node {
+	if w.calm && w.chance(60) {
+		return node(api.NodeNumber, w.one("0 1 2"))
+	}
+	return w.expression(integer(), levels)
 }
 
 func (w *writer) choice(levels int) api.Node {
